@@ -111,39 +111,22 @@ func PowNat(a string, n int) (string, bool) {
 }
 
 func ToRadix(a string, radix int) (string, bool) {
-	left, ok := readNat(a)
+	n, ok := readNat(a)
 	if !ok || !goodRadix(radix) {
 		return "", false
 	}
-	// The digits come least first, so the text is filled from its end; the radix 2 asks for less than four a decimal one.
-	var text [4 * MaxDigits]byte
-	at, digit := len(text), 0
-	for {
-		left, digit = left.divideSmall(radix)
-		at--
-		text[at] = "0123456789abcdef"[digit]
-		if left.used == 0 {
-			return string(text[at:]), true
-		}
-	}
+	return n.digits(radix), true
 }
 
 func OfRadix(s string, radix int) (string, bool) {
-	if !goodRadix(radix) || len(s) < 1 || len(s) > maxRadixDigits {
+	if !goodRadix(radix) {
 		return "", false
 	}
-	var n nat
-	for at := range len(s) {
-		digit := digitOf(s[at])
-		if digit >= radix {
-			return "", false
-		}
-		n = n.timesSmall(radix, digit)
-		if !n.fits() {
-			return "", false
-		}
+	n, ok := readDigits(s, radix)
+	if !ok {
+		return "", false
 	}
-	return tellNat(n)
+	return n.text(), true
 }
 
 func goodRadix(radix int) bool {
@@ -184,11 +167,30 @@ func readNat(s string) (nat, bool) {
 	return n, true
 }
 
-// natOf makes a number of one part.
+// readDigits reads the digits of a radix, needless noughts among them.
+func readDigits(s string, radix int) (nat, bool) {
+	var n nat
+	if len(s) < 1 || len(s) > maxRadixDigits {
+		return n, false
+	}
+	for at := range len(s) {
+		digit := digitOf(s[at])
+		if digit >= radix {
+			return n, false
+		}
+		n = n.timesSmall(radix, digit)
+		if !n.fits() {
+			return n, false
+		}
+	}
+	return n, true
+}
+
+// natOf makes a number of an int that is not below 0.
 func natOf(small int) nat {
 	n := nat{used: 1}
 	n.part[0] = small
-	n.trim()
+	n.carry()
 	return n
 }
 
@@ -211,9 +213,31 @@ func (n nat) text() string {
 	return string(text)
 }
 
+// digits gives the text in any radix, of a number that fits.
+func (n nat) digits(radix int) string {
+	if radix == 10 {
+		return n.text()
+	}
+	// The digits come least first, so the text is filled from its end; the radix 2 asks for less than four a decimal one.
+	var text [4 * MaxDigits]byte
+	at, digit := len(text), 0
+	for {
+		n, digit = n.divideSmall(radix)
+		at--
+		text[at] = "0123456789abcdef"[digit]
+		if n.used == 0 {
+			return string(text[at:])
+		}
+	}
+}
+
 // fits tells whether it has at most MaxDigits digits.
 func (n nat) fits() bool {
 	return n.used <= mostParts
+}
+
+func (n nat) isOne() bool {
+	return n.used == 1 && n.part[0] == 1
 }
 
 func (n nat) compare(b nat) int {
