@@ -19,7 +19,8 @@ const (
 	mostParts  = MaxDigits / partDigits
 
 	// A product has twice as many parts as its factors; a sum of products and a division look at a few more.
-	roomParts = 2*mostParts + 4
+	widestParts = 2 * mostParts
+	roomParts   = widestParts + 4
 )
 
 // nat is a number as parts in an array, the least one first. Parts from used on are 0, the last used one is not;
@@ -126,7 +127,7 @@ func OfRadix(s string, radix int) (string, bool) {
 	if !ok {
 		return "", false
 	}
-	return n.text(), true
+	return tellNat(n)
 }
 
 func goodRadix(radix int) bool {
@@ -167,7 +168,8 @@ func readNat(s string) (nat, bool) {
 	return n, true
 }
 
-// readDigits reads the digits of a radix, needless noughts among them.
+// readDigits reads the digits of a radix, needless noughts among them. What it gives may be too long for a natural
+// number, as the top and the bottom of a fraction may be ahead of lowest terms.
 func readDigits(s string, radix int) (nat, bool) {
 	var n nat
 	if len(s) < 1 || len(s) > maxRadixDigits {
@@ -179,7 +181,8 @@ func readDigits(s string, radix int) (nat, bool) {
 			return n, false
 		}
 		n = n.timesSmall(radix, digit)
-		if !n.fits() {
+		// It is too long for any number by far, and some digits more would outgrow the parts.
+		if n.used > widestParts {
 			return n, false
 		}
 	}

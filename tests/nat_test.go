@@ -375,3 +375,15 @@ func TestOfRadixAtMaxDigits(t *testing.T) {
 		refused(t, fmt.Sprint("OfRadix ", radix), got, ok)
 	}
 }
+
+// Digits of every length are told as long as they make a natural number, and refused from then on.
+func TestOfRadixOfAllLengths(t *testing.T) {
+	for _, radix := range radixes() {
+		for digits := 1; digits <= 2000; digits += 7 {
+			s := strings.Repeat("1", digits)
+			n, _ := new(big.Int).SetString(s, radix)
+			got, ok := impl.OfRadix(s, radix)
+			toldIfShort(t, fmt.Sprint("OfRadix ", digits, " digits of radix ", radix), got, ok, n)
+		}
+	}
+}

@@ -28,7 +28,7 @@ func TestReadNum(t *testing.T) {
 	}
 }
 
-// Digits of each radix, 600 of them, are read as long as they tell a natural number; the 601st is too many.
+// Digits of each radix, 600 of them, are read where they tell a number; the 601st is too many.
 func TestReadNumLimits(t *testing.T) {
 	for radix, sign := range map[int]string{2: "#b", 8: "#o", 10: "#d", 16: "#x"} {
 		for _, digit := range []string{"1", "7", "f"} {
@@ -71,9 +71,63 @@ func TestReadNumAtMaxDigits(t *testing.T) {
 		got, ok = impl.ReadNum("#x" + s + "/" + s)
 		told(t, "ReadNum #x", got, ok, "1")
 	}
-	for _, s := range []string{above, "-" + above, "1/" + above, above + "/" + above} {
+	for _, s := range []string{above, "-" + above, "1/" + above, above + "/7", "7/" + above, above + "/" + most} {
 		got, ok := impl.ReadNum("#x" + s)
 		refused(t, "ReadNum #x"+short(s), got, ok)
+	}
+}
+
+// Digits that make more than MaxDigits decimal ones tell a number where its lowest terms are short enough.
+func TestReadNumInLowestTerms(t *testing.T) {
+	f, noughts := strings.Repeat("F", 600), strings.Repeat("0", 598)
+	above := bigOf(t, one(600)).Text(16)
+	rows := [][2]string{
+		{"#x0/" + f, "0"}, {"#x-0/" + f, "0"}, {"#x+" + f + "/" + f, "1"}, {"#x-" + f + "/" + f, "-1"}, {"#x-1" + noughts + "0/1" + noughts, "-16"}, {"#x1" + noughts + "/1" + noughts + "0", "1/16"},
+		{"#x" + above + "/" + above, "1"}, {"#x-" + above + "/A", "-" + one(599)}, {"#xA/" + above, "1/" + one(599)}, {"#x" + f + "/" + strings.Repeat("f", 300), bigPower(2, 1200, 1)}, {"#x-" + f + "/" + strings.Repeat("5", 600), "-3"}, {"#x" + f + "/" + strings.Repeat("E", 600), "15/14"},
+	}
+	for _, r := range rows {
+		got, ok := impl.ReadNum(r[0])
+		told(t, fmt.Sprintf("ReadNum(%q)", short(r[0])), got, ok, r[1])
+	}
+	for _, s := range []string{"#x" + f, "#x-" + f, "#x1/" + f, "#x" + f + "/1", "#x" + f + "/2", "#x" + f + "/F", "#xF/" + f, "#x0/" + f + "F", "#x" + f + "F/" + f + "F", "#x" + f + "/0", "#x0/" + strings.Repeat("0", 600)} {
+		got, ok := impl.ReadNum(s)
+		refused(t, fmt.Sprintf("ReadNum(%q)", short(s)), got, ok)
+	}
+}
+
+// bigPower is a power of a number, and so much more.
+func bigPower(base int64, n int64, more int64) string {
+	power := new(big.Int).Exp(big.NewInt(base), big.NewInt(n), nil)
+	return power.Add(power, big.NewInt(more)).String()
+}
+
+// Tops and bottoms of every length that 600 digits of radix 16 may make, with a divisor of any length in common.
+func TestReadNumOfLongDigits(t *testing.T) {
+	d := &dice{state: 61}
+	told, longer := 0, 0
+	for range 1500 {
+		common := bigOf(t, d.nat(1+d.below(723)))
+		top := bigOf(t, d.nat(1+d.below(723)))
+		bottom := bigOf(t, d.nat(1+d.below(723)))
+		if d.below(2) == 0 {
+			// Half of them have lengths that fit, so that many are just at the edge.
+			top = bigOf(t, d.nat(max(1, 723-len(common.String())-d.below(3))))
+		}
+		top.Mul(top, common)
+		bottom.Mul(bottom, common)
+		over, under := top.Text(16), bottom.Text(16)
+		if len(over) > 600 || len(under) > 600 || bottom.Sign() == 0 {
+			continue
+		}
+		told++
+		if len(top.String()) > 600 || len(bottom.String()) > 600 {
+			longer++
+		}
+		got, ok := impl.ReadNum("#x" + over + "/" + under)
+		toldIfNum(t, "ReadNum #x"+short(over)+"/"+short(under), got, ok, new(big.Rat).SetFrac(top, bottom))
+	}
+	if told < 200 || longer < 100 {
+		t.Error("only", told, "were short enough, and", longer, "longer than MaxDigits")
 	}
 }
 
