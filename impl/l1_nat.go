@@ -21,6 +21,9 @@ const (
 	// A product has twice as many parts as its factors; a sum of products and a division look at a few more.
 	widestParts = 2 * mostParts
 	roomParts   = widestParts + 4
+
+	// leadParts is how many parts fit an int.
+	leadParts = 3
 )
 
 // nat is a number as parts in an array, the least one first. Parts from used on are 0, the last used one is not;
@@ -28,6 +31,11 @@ const (
 type nat struct {
 	used int
 	part [roomParts]int
+}
+
+// mix tells what two numbers n and b become: n1 times n and b1 times b, and n2 times n and b2 times b.
+type mix struct {
+	n1, b1, n2, b2 int
 }
 
 func GoodNat(s string) bool {
@@ -342,11 +350,58 @@ func (n nat) divideSmall(by int) (nat, int) {
 	return n, rest
 }
 
+// gcd goes by the first parts of both numbers alone, as Lehmer does it, for as many quotients as these are sure of.
 func (n nat) gcd(b nat) nat {
 	for b.used > 0 {
+		top := max(n.used, b.used, leadParts)
+		x, y := n.lead(top), b.lead(top)
+		if top == leadParts {
+			return natOf(gcdOf(x, y))
+		}
+		if m := sureSteps(x, y); m.b1 != 0 {
+			n, b = n.combined(m.n1, b, m.b1), n.combined(m.n2, b, m.b2)
+			continue
+		}
 		_, rest := n.divide(b)
 		n, b = b, rest
 	}
+	return n
+}
+
+// lead gives the first parts of a number of so many parts as one int.
+func (n nat) lead(top int) int {
+	return (n.part[top-1]*partBase+n.part[top-2])*partBase + n.part[top-3]
+}
+
+func gcdOf(x int, y int) int {
+	for y > 0 {
+		x, y = y, x%y
+	}
+	return x
+}
+
+// sureSteps gives what steps of Euclid's make of two numbers that begin with x and y, as far as a quotient is sure: the
+// same whatever may stand behind. None of the mix then goes beyond the root of x, so its products with parts fit an int.
+func sureSteps(x int, y int) mix {
+	m := mix{n1: 1, b2: 1}
+	for y+m.n2 != 0 && y+m.b2 != 0 {
+		quotient := (x + m.n1) / (y + m.n2)
+		if quotient != (x+m.b1)/(y+m.b2) {
+			break
+		}
+		m = mix{m.n2, m.b2, m.n1 - quotient*m.n2, m.b1 - quotient*m.b2}
+		x, y = y, x-quotient*y
+	}
+	return m
+}
+
+// combined gives x times n and y times b together, which is not below 0.
+func (n nat) combined(x int, b nat, y int) nat {
+	n.used = max(n.used, b.used)
+	for at := range n.used {
+		n.part[at] = x*n.part[at] + y*b.part[at]
+	}
+	n.carry()
 	return n
 }
 

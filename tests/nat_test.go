@@ -248,6 +248,23 @@ func TestGcdNatOfFibonacci(t *testing.T) {
 	told(t, "GcdNat of neighbours", got, ok, "1")
 }
 
+// Numbers with long divisors in common, and numbers that begin alike, so that their first parts tell little.
+func TestGcdNatOfLongDivisors(t *testing.T) {
+	d := &dice{state: 19}
+	for n := range 20000 {
+		common, a := bigOf(t, d.nat(1+d.below(60))), bigOf(t, d.nat(1+d.below(1+d.below(100))))
+		b := bigOf(t, d.nat(1+d.below(1+d.below(100))))
+		if n%3 == 0 {
+			b.Add(a, bigOf(t, d.nat(1+d.below(30))))
+		}
+		a.Mul(a, common)
+		b.Mul(b, common)
+		want := new(big.Int).GCD(nil, nil, a, b)
+		got, ok := impl.GcdNat(a.String(), b.String())
+		told(t, "GcdNat "+short(a.String())+" "+short(b.String()), got, ok, want.String())
+	}
+}
+
 func TestPowNat(t *testing.T) {
 	rows := []struct {
 		a    string
