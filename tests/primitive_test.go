@@ -198,3 +198,32 @@ func TestCallsOfManyValues(t *testing.T) {
 	gives(t, "(length (list"+strings.Repeat(" 1", 290)+"))", "290")
 	gives(t, "((lambda x (length x))"+strings.Repeat(" 1", 290)+")", "290")
 }
+
+// Numbers that are short, that just are or are not, and that become long or short again on the way.
+func TestSumsOfShortNumbers(t *testing.T) {
+	d := &dice{state: 127}
+	edges := []string{"0", "1", "-1", "2", "3", "-7", "10", "1/2", "-1/2", "1/3", "-5/6", "99999999", "-99999999", "100000000", "-100000000", "999999999", "-999999999", "1000000000", "-1000000000", "1/999999999", "-1/999999999", "1/1000000000", "999999999/1000000000", "-999999998/999999999", "999999937/999999929", "123456789/987654322", nines(18), "-" + one(18), "1/" + nines(19)}
+	for range 1500 {
+		var forms []string
+		for range 8 {
+			form := "(" + []string{"+", "-", "*", "/", "=", "<", ">", "<=", ">="}[d.below(9)]
+			for range 1 + d.below(5) {
+				form += " " + edges[d.below(len(edges))]
+			}
+			if d.below(4) == 0 {
+				form = strings.Replace(form, " ", " (+ 1 1) ", 1)
+			}
+			forms = append(forms, form+")")
+		}
+		batches(t, forms)
+	}
+	for _, a := range edges {
+		for _, b := range edges {
+			forms := []string{"(- " + a + ")", "(/ " + a + ")", "(+ " + a + " " + b + " (- " + b + "))", "(* " + a + " " + b + " 3)"}
+			for _, name := range []string{"+", "-", "*", "/", "=", "<", ">", "<=", ">="} {
+				forms = append(forms, "("+name+" "+a+" "+b+")")
+			}
+			batches(t, forms)
+		}
+	}
+}

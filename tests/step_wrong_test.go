@@ -112,7 +112,7 @@ func TestRunsInGoodTime(t *testing.T) {
 			"(define x " + heavy + ") " + loop("(< x x x x x x x x x x x x x x x x)"),
 			"(define x " + nines(590) + ") " + loop("(quotient (* 7 x) 3)"),
 			"(define (f n) (f (* n n))) (f 3) " + loop("(* 1 2)"),
-			long + loop("(equal? l l)"), long + loop("(equal? l (cons 1 (cdr l)))"), long + loop("(length l)"), long + loop("(apply (lambda (a . b) a) l)"), long + loop("(append '() l)"), long + loop("(equal? l m)"),
+			long + loop("(equal? l l)"), long + loop("(equal? l (cons 1 (cdr l)))"), long + loop("(length l)"), long + loop("(apply (lambda (a . b) a) l)"), long + loop("(append '() l)"), long + loop("(equal? l m)"), long + loop("(apply + l)"), long + loop("(apply - m)"),
 			loop("(call/cc (lambda (k) k))"), loop("'(1 2 3 4 5 6 7 8 9)"), loop("(lambda (x) x)"), loop("(define x 1)"),
 			"(define k 0) (begin (call/cc (lambda (c) (set! k c))) (k 1))", "(define (f) (call/cc (lambda (k) (f)))) (f)", "(define (f x) (f (lambda () x))) (f 1)", "(define (f x) (f (list x x))) (f 1)", "(define (f) (list (f))) (f)",
 			"((lambda (x) (x x)) (lambda (x) (x x)))", "((lambda (x) (x (x x))) (lambda (x) (x (x x))))", "(define (d x n) (if (= n 0) x (d (cons x x) (- n 1)))) (display (d 1 200))",
