@@ -162,12 +162,8 @@ type coded struct {
 	code    int
 }
 
-// modelCoded is what a text should come to by code.
-func modelCoded(text string, fuel int) (c coded) {
-	code, result := modelCode(text)
-	if result != impl.RunOk || fuel < 0 || fuel > 20000 {
-		return coded{code: impl.RunForm}
-	}
+// newCodeModel is about to do the first instruction.
+func newCodeModel(code []impl.Instr, fuel int) *codeModel {
 	global := &scope{vars: map[string]any{}}
 	m := &codeModel{stepModel: &stepModel{fuel: fuel, global: global, tools: map[string]*doer{}}, code: code, procs: map[*doer]codeProc{}, starts: []int{0}}
 	m.state.in = global
@@ -180,6 +176,16 @@ func modelCoded(text string, fuel int) (c coded) {
 			m.starts = append(m.starts, at+1)
 		}
 	}
+	return m
+}
+
+// modelCoded is what a text should come to by code.
+func modelCoded(text string, fuel int) (c coded) {
+	code, result := modelCode(text)
+	if result != impl.RunOk || fuel < 0 || fuel > 20000 {
+		return coded{code: impl.RunForm}
+	}
+	m := newCodeModel(code, fuel)
 	defer func() {
 		if e := recover(); e == (modelOut{}) {
 			c = coded{code: impl.RunOut}
