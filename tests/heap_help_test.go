@@ -27,11 +27,12 @@ type heapModel struct {
 func heapModelOf(h impl.Heap) *heapModel {
 	m := &heapModel{old: h.Old}
 	for _, c := range h.Cells {
-		node := &heapNode{n: c.N}
+		m.cells = append(m.cells, &heapNode{n: c.N})
+	}
+	for at, c := range h.Cells {
 		if !c.Leaf {
-			node.first, node.second = m.cells[c.A], m.cells[c.B]
+			m.cells[at].first, m.cells[at].second = m.cells[c.A], m.cells[c.B]
 		}
-		m.cells = append(m.cells, node)
 	}
 	for _, root := range h.Roots {
 		m.roots = append(m.roots, m.cells[root])
@@ -126,37 +127,45 @@ type heapPlay struct {
 func modelPlay(l []impl.HeapOp, room int, nursery int) heapPlay {
 	m, p := &heapModel{}, heapPlay{}
 	for _, op := range l {
-		switch op.Kind {
-		case impl.HeapCollect:
-			if room >= 0 {
-				m.collect(0)
-			}
-		case impl.HeapMinor:
-			if room >= 0 {
-				m.collect(m.old)
-			}
-		case impl.HeapDrop:
-			if m.root(op.A) != nil {
-				m.roots = slices.Concat(m.roots[:op.A], m.roots[op.A+1:])
-			}
-		case impl.HeapShow, impl.HeapSame:
-			p.told += m.tell(op)
-		default:
-			node := m.made(op)
-			if node == nil || len(m.roots) == 60 {
-				continue
-			}
-			if !slices.Contains(m.cells, node) {
-				if room >= 0 && !m.hasRoom(room, nursery) {
-					p.full = true
-					return p
-				}
-				m.cells = append(m.cells, node)
-			}
-			m.roots = append(m.roots, node)
+		if p.full = !m.play(op, room, nursery); p.full {
+			return p
 		}
+		p.told += m.tell(op)
 	}
 	return p
+}
+
+// play does an op, but for what it tells, and says whether there was room for it.
+func (m *heapModel) play(op impl.HeapOp, room int, nursery int) bool {
+	switch op.Kind {
+	case impl.HeapCollect:
+		if room >= 0 {
+			m.collect(0)
+		}
+		return true
+	case impl.HeapMinor:
+		if room >= 0 {
+			m.collect(m.old)
+		}
+		return true
+	case impl.HeapDrop:
+		if m.root(op.A) != nil {
+			m.roots = slices.Concat(m.roots[:op.A], m.roots[op.A+1:])
+		}
+		return true
+	}
+	node := m.made(op)
+	if node == nil || len(m.roots) == 60 {
+		return true
+	}
+	if !slices.Contains(m.cells, node) {
+		if room >= 0 && !m.hasRoom(room, nursery) {
+			return false
+		}
+		m.cells = append(m.cells, node)
+	}
+	m.roots = append(m.roots, node)
+	return true
 }
 
 func (m *heapModel) root(at int) *heapNode {
@@ -211,14 +220,16 @@ func (m *heapModel) tell(op impl.HeapOp) string {
 // heapOpNames are the words by which the tests write ops, each at its kind.
 var heapOpNames = []string{"", "leaf", "pair", "first", "second", "drop", "show", "same", "collect", "minor"}
 
-// opsOf reads ops as the tests write them: with a | between, each its word, its A and its B where it has them, and
+func opsOf(text string) []impl.HeapOp { return opsIn(heapOpNames, text) }
+
+// opsIn reads ops as the tests write them: with a | between, each its word, its A and its B where it has them, and
 // *n behind it for n of them.
-func opsOf(text string) []impl.HeapOp {
+func opsIn(names []string, text string) []impl.HeapOp {
 	var out []impl.HeapOp
 	for _, part := range strings.Split(text, "|") {
 		part, times, _ := strings.Cut(part, "*")
 		words := append(strings.Fields(part), "0", "0")
-		op := impl.HeapOp{Kind: slices.Index(heapOpNames, words[0])}
+		op := impl.HeapOp{Kind: slices.Index(names, words[0])}
 		op.A, _ = strconv.Atoi(words[1])
 		op.B, _ = strconv.Atoi(words[2])
 		many, err := strconv.Atoi(strings.TrimSpace(times))

@@ -9,8 +9,12 @@ import (
 	"loop.example/g00201/impl"
 )
 
-// modelGoodHeap counts what is wrong with a heap.
 func modelGoodHeap(h impl.Heap) bool {
+	return wrongsIn(h, func(at int) int { return at }) == 0
+}
+
+// wrongsIn counts what is wrong with a heap whose pairs may name the cells ahead of a bound, each its own.
+func wrongsIn(h impl.Heap, bound func(at int) int) int {
 	wrong := 0
 	count := func(is bool) {
 		if is {
@@ -23,12 +27,12 @@ func modelGoodHeap(h impl.Heap) bool {
 	count(!names(h.Old, len(h.Cells)+1))
 	for at, c := range h.Cells {
 		count(c.Leaf && c != impl.Cell{Leaf: true, N: c.N})
-		count(!c.Leaf && (c.N != 0 || !names(c.A, at) || !names(c.B, at)))
+		count(!c.Leaf && (c.N != 0 || !names(c.A, bound(at)) || !names(c.B, bound(at))))
 	}
 	for _, root := range h.Roots {
 		count(!names(root, len(h.Cells)))
 	}
-	return wrong == 0
+	return wrong
 }
 
 // spoil changes one thing of a heap, which may then be good or not.
